@@ -2,22 +2,12 @@ import unittest
 from fractions import Fraction
 from itertools import product
 
-from endrooms.errors import IsEnd, NoFraction, NoHouse, NoRoom, NoTaking, RoomError, Unending
+from samples import MOST_WEIGHT, Refusing
+
+from endrooms.errors import NoHouse, NoRoom
 from endrooms.houses import House, comes_to_end
 
-MOST_WEIGHT = 10 ** 15
 ALL_PAIRS = [(start, goal) for start in range(7) for goal in range(7)]
-
-
-class Refusing(unittest.TestCase):
-    def refused(self, wanted, call, *arguments):
-        with self.assertRaises(wanted) as caught:
-            call(*arguments)
-        self.assertIs(type(caught.exception), wanted)
-        self.assertIsInstance(caught.exception, RoomError)
-        self.assertIsInstance(caught.exception, ValueError)
-        for kind in (NoFraction, NoHouse, NoRoom, Unending, IsEnd, NoTaking):
-            self.assertEqual(isinstance(caught.exception, kind), kind == wanted)
 
 
 class Taken(unittest.TestCase):

@@ -89,6 +89,14 @@ class Language(unittest.TestCase):
                 if isinstance(node, ast.ListComp):
                     self.assertEqual(len(node.generators), 1, where)
                     self.assertLessEqual(len(node.generators[0].ifs), 1, where)
+                if isinstance(node, ast.Expr) and node != tree.body[0]:
+                    self.assertIsInstance(node.value, ast.Call, where)
+                if isinstance(node, ast.BinOp) and isinstance(node.op, ast.Pow):
+                    self.assertIsInstance(node.right, ast.Constant, where)
+                if isinstance(node, ast.Constant) and isinstance(node.value, str):
+                    self.assertNotIn("%", node.value, where)
+                if isinstance(node, ast.Compare) and isinstance(node.ops[0], (ast.Is, ast.IsNot)):
+                    self.assertIsInstance(node.comparators[0], ast.Constant, where)
                 if isinstance(node, ast.Try):
                     self.assertEqual(node.finalbody, [], where)
 
